@@ -2,62 +2,60 @@ package machine
 
 import (
 	"squint/api"
+	"squint/kept"
 	"squint/value"
 )
 
-func (x *Machine) number(i api.Ins, _ []thing) { x.lay(thing{kind: api.VInt, num: i.A}) }
+func (x *Machine) number(i api.Ins, _ []kept.Value) { x.lay(kept.Int(i.A)) }
 
-func (x *Machine) truth(i api.Ins, _ []thing) { x.lay(thing{kind: api.VBool, num: i.A}) }
+func (x *Machine) truth(i api.Ins, _ []kept.Value) { x.lay(kept.Bool(i.A)) }
 
-func (x *Machine) load(i api.Ins, _ []thing) { x.lay(x.running().slots[i.A]) }
+func (x *Machine) load(i api.Ins, _ []kept.Value) { x.lay(x.running().slots[i.A]) }
 
-func (x *Machine) store(i api.Ins, got []thing) {
+func (x *Machine) store(i api.Ins, got []kept.Value) {
 	c := x.running()
 	for len(c.slots) <= i.A {
-		c.slots = append(c.slots, thing{})
+		c.slots = append(c.slots, kept.Value{})
 	}
 	c.slots[i.A] = got[0]
 }
 
-func (x *Machine) empty(i api.Ins, _ []thing) { x.running().slots[i.A] = thing{} }
+func (x *Machine) empty(i api.Ins, _ []kept.Value) { x.running().slots[i.A] = kept.Value{} }
 
-func (x *Machine) captured(i api.Ins, _ []thing) { x.lay(x.running().fn.at(i.A)) }
+func (x *Machine) captured(i api.Ins, _ []kept.Value) { x.lay(x.running().fn.At(i.A)) }
 
-func (x *Machine) self(api.Ins, []thing) { x.lay(x.running().fn) }
+func (x *Machine) self(api.Ins, []kept.Value) { x.lay(x.running().fn) }
 
-func (x *Machine) drop(api.Ins, []thing) {}
+func (x *Machine) drop(api.Ins, []kept.Value) {}
 
-func (x *Machine) length(_ api.Ins, got []thing) {
-	x.lay(thing{kind: api.VInt, num: got[0].many()})
+func (x *Machine) length(_ api.Ins, got []kept.Value) {
+	x.lay(kept.Int(got[0].Many()))
 }
 
-func (x *Machine) index(_ api.Ins, got []thing) {
-	list, k := got[0], got[1].num
-	if k < 0 || k >= list.many() {
+func (x *Machine) index(_ api.Ins, got []kept.Value) {
+	list, k := got[0], got[1].Num
+	if k < 0 || k >= list.Many() {
 		x.trap(api.TrapIndex)
 		return
 	}
-	x.lay(list.at(k))
+	x.lay(list.At(k))
 }
 
-func (x *Machine) field(i api.Ins, got []thing) {
-	if i.A >= got[0].many() {
+func (x *Machine) field(i api.Ins, got []kept.Value) {
+	if i.A >= got[0].Many() {
 		x.trap(api.TrapWrong)
 		return
 	}
-	x.lay(got[0].at(i.A))
+	x.lay(got[0].At(i.A))
 }
 
-func (x *Machine) unary(i api.Ins, got []thing) {
-	x.reckoned(value.Unary(i.A, got[0].head()))
+func (x *Machine) unary(i api.Ins, got []kept.Value) {
+	x.reckoned(value.Unary(i.A, got[0].Head()))
 }
 
-func (x *Machine) binary(i api.Ins, got []thing) {
-	x.reckoned(value.Bin(i.A, got[0].head(), got[1].head()))
+func (x *Machine) binary(i api.Ins, got []kept.Value) {
+	x.reckoned(value.Bin(i.A, got[0].Head(), got[1].Head()))
 }
-
-// head is what operators look at.
-func (t thing) head() api.Value { return api.Value{Kind: t.kind, Num: t.num} }
 
 // reckoned takes what an operator answers.
 func (x *Machine) reckoned(v api.Value, why int) {
@@ -65,18 +63,18 @@ func (x *Machine) reckoned(v api.Value, why int) {
 		x.trap(why)
 		return
 	}
-	x.lay(keep(v))
+	x.lay(kept.Keep(v))
 }
 
-func (x *Machine) jump(i api.Ins, _ []thing) { x.running().at = i.A }
+func (x *Machine) jump(i api.Ins, _ []kept.Value) { x.running().at = i.A }
 
-func (x *Machine) branch(i api.Ins, got []thing) {
-	if got[0].num == 0 {
+func (x *Machine) branch(i api.Ins, got []kept.Value) {
+	if got[0].Num == 0 {
 		x.running().at = i.A
 	}
 }
 
-func (x *Machine) back(i api.Ins, _ []thing) {
+func (x *Machine) back(i api.Ins, _ []kept.Value) {
 	x.running().at = i.A
 	x.stop(pause{kind: api.PTick})
 }

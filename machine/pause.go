@@ -1,28 +1,31 @@
 package machine
 
-import "squint/api"
+import (
+	"squint/api"
+	"squint/kept"
+)
 
 // pause is why a machine does not go on.
 type pause struct {
 	kind, code int
 	arms       []arm
-	fn         thing
-	args       []thing
+	fn         kept.Value
+	args       []kept.Value
 }
 
 // arm is one with which a machine waits.
 type arm struct {
 	on   int
 	send bool
-	what thing // of one that receives none
-	next int   // where it goes on
+	what kept.Value // of one that receives none
+	next int        // where it goes on
 }
 
 // told is a pause as it is answered, but for its cells.
 func (p pause) told() api.Pause {
-	out := api.Pause{Kind: p.kind, Code: p.code, Fn: p.fn.told(), Args: toldAll(p.args)}
+	out := api.Pause{Kind: p.kind, Code: p.code, Fn: p.fn.Tell(), Args: kept.TellAll(p.args)}
 	for _, one := range p.arms {
-		out.Arms = append(out.Arms, api.Arm{Chan: one.on, Send: one.send, Value: one.what.told()})
+		out.Arms = append(out.Arms, api.Arm{Chan: one.on, Send: one.send, Value: one.what.Tell()})
 	}
 	return out
 }
@@ -42,16 +45,16 @@ func (x *Machine) trap(why int) { x.stop(pause{kind: api.PTrap, code: why}) }
 
 func (x *Machine) spend(what int) { x.stop(pause{kind: api.PSpent, code: what}) }
 
-func (x *Machine) channel(api.Ins, []thing) { x.stop(pause{kind: api.PMake}) }
+func (x *Machine) channel(api.Ins, []kept.Value) { x.stop(pause{kind: api.PMake}) }
 
-func (x *Machine) wait(i api.Ins, got []thing) {
+func (x *Machine) wait(i api.Ins, got []kept.Value) {
 	var arms []arm
 	for k := 0; k < len(i.List); k += 2 {
-		if got[0].kind != api.VChan {
+		if got[0].Kind != api.VChan {
 			x.trap(api.TrapWrong)
 			return
 		}
-		one := arm{on: got[0].num, send: i.List[k] == 1, next: i.List[k+1]}
+		one := arm{on: got[0].Num, send: i.List[k] == 1, next: i.List[k+1]}
 		got = got[1:]
 		if one.send {
 			one.what, got = got[0], got[1:]

@@ -4,21 +4,19 @@ import (
 	"slices"
 
 	"squint/api"
+	"squint/kept"
 )
 
 // plan is what all machines of a unit share; nobody ever changes it.
 type plan struct {
 	progs []api.Prog
-	types []api.Type
+	zeros []kept.Value // the types' default values
 	rows  [api.Ops + 1]row
 }
 
 // newPlan copies a unit, since whoever handed it in may write into it later.
 func newPlan(u api.Unit) *plan {
-	p := &plan{progs: slices.Clone(u.Progs), types: slices.Clone(u.Types), rows: rows()}
-	for k, one := range p.types {
-		p.types[k].Kids = slices.Clone(one.Kids)
-	}
+	p := &plan{progs: slices.Clone(u.Progs), zeros: kept.Zeros(u.Types), rows: rows()}
 	for k, one := range p.progs {
 		own := slices.Clone(one.Code)
 		for at, i := range own {
@@ -30,17 +28,17 @@ func newPlan(u api.Unit) *plan {
 }
 
 // unfit is the trap of what does not fit so many arguments, if it is called; 0, if it fits.
-func (p *plan) unfit(fn thing, args int) int {
-	if fn.kind != api.VProg {
+func (p *plan) unfit(fn kept.Value, args int) int {
+	if fn.Kind != api.VProg {
 		return api.TrapWrong
 	}
-	if fn.num == 0 {
+	if fn.Num == 0 {
 		return api.TrapNil
 	}
-	if fn.num < 0 || fn.num > len(p.progs) {
+	if fn.Num < 0 || fn.Num > len(p.progs) {
 		return api.TrapWrong
 	}
-	if of := p.progs[fn.num-1]; fn.many() != of.Caps || args != of.Params {
+	if of := p.progs[fn.Num-1]; fn.Many() != of.Caps || args != of.Params {
 		return api.TrapWrong
 	}
 	return 0
@@ -49,7 +47,7 @@ func (p *plan) unfit(fn thing, args int) int {
 // row is what an instruction of one operation does.
 type row struct {
 	wants []int // the kinds of the values that it pops, the one laid first first; VNone, and what is not told: any
-	do    func(x *Machine, i api.Ins, got []thing)
+	do    func(x *Machine, i api.Ins, got []kept.Value)
 }
 
 // rows is the table of the operations. What an instruction pops is handed to it as it was laid.
@@ -86,9 +84,9 @@ func rows() [api.Ops + 1]row {
 }
 
 // ofKinds tells whether values are of the kinds that are wanted.
-func ofKinds(got []thing, wants []int) bool {
+func ofKinds(got []kept.Value, wants []int) bool {
 	for k, kind := range wants {
-		if kind != api.VNone && got[k].kind != kind {
+		if kind != api.VNone && got[k].Kind != kind {
 			return false
 		}
 	}
