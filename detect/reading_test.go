@@ -185,7 +185,7 @@ func some(channels []int, arms []api.Hand) [][]int {
 	return out
 }
 
-// sorts are agents of all kinds on these channels: awake, or waiting with at most so many arms, which may be on nil; holding any of them.
+// sorts are agents of all kinds on these channels: awake, or waiting with at most so many arms, which may be on nil (receiving there); holding any of them.
 func sorts(channels []int, arms int) []api.Agent {
 	var out []api.Agent
 	for _, l := range some(channels, nil) {
@@ -208,7 +208,7 @@ func sorts(channels []int, arms int) []api.Agent {
 	return out
 }
 
-// P15.1 to P15.5: all states of two agents with at most two arms each.
+// P15.1 to P15.5: all states of two agents with at most two arms each, on the world's two channels and one more.
 func TestTwoAgents(t *testing.T) {
 	all := sorts(ids(1, 2, 3), 2)
 	for _, a := range all {
@@ -221,7 +221,7 @@ func TestTwoAgents(t *testing.T) {
 	}
 }
 
-// P15.1 to P15.5: all states of three agents with at most one arm each.
+// P15.1 to P15.5: all states of three agents with at most one arm each, on two channels.
 func TestThreeAgents(t *testing.T) {
 	for _, channels := range [][]int{{1, 3}, {2, 3}, {3, 4}} {
 		all := sorts(channels, 1)
