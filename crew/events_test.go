@@ -139,7 +139,7 @@ func stands[P crew.Proc[P]](c *crew.Crew[P]) standing {
 	return standing{c.Count(), c.Rows(), c.Agents(), c.Counts(), c.Spent()}
 }
 
-// row and agents of one process, for short.
+// ready, waits, ended and reaped are rows, agent is a row as an agent.
 func ready(id int, held ...int) api.Row { return api.Row{Id: id, State: api.StReady, Held: held} }
 func waits(id int, arms []api.Hand, held ...int) api.Row {
 	return api.Row{Id: id, State: api.StWaits, Arms: arms, Held: held}

@@ -5,6 +5,7 @@ import (
 	"unsafe"
 
 	"squint/api"
+	"squint/crew"
 )
 
 // fill writes one thing all over a list and the room behind it.
@@ -89,6 +90,17 @@ func TestAnswersApart(t *testing.T) {
 	if !apart(all) {
 		t.Error("answers share memory")
 	}
+	for _, l := range [][]api.Event{first, second, third} {
+		spoilEvents(l)
+	}
+	for _, one := range []*crew.Crew[*puppet]{c, d} {
+		spoilRows(one.Rows())
+		spoilAgents(one.Agents())
+		one.In(0, 1)
+		one.Out(0)
+	}
+	same(t, "what a process told that it holds", held[:4], []int{1, 2, 3, 9})
+	same(t, "what a process told that it waits with", arms[:3], []api.Arm{r(3), s(2, number(1)), r(7)})
 }
 
 // R4, P16.3, P16.4, P16.5: what was answered is the caller's own: no other answer, earlier or later, shows what is written there.
