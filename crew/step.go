@@ -11,7 +11,7 @@ func (c *Crew[P]) Count() int {
 	if c.Spent() {
 		return 0
 	}
-	return len(c.ready()) + len(post.Pairs(c.waiters()))
+	return len(c.ready()) + meetings(c.waiters())
 }
 
 func (c *Crew[P]) Step(n int) []api.Event {

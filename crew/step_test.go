@@ -1,6 +1,8 @@
 package crew_test
 
 import (
+	"runtime"
+	"slices"
 	"testing"
 
 	"squint/api"
@@ -63,6 +65,34 @@ func TestOrder(t *testing.T) {
 	told(t, "3 sends to 2", d.Step(5), meet(3, 1, 2, 0, 3))
 	testRows(t, d, ready(0, 1, 2, 3, 4, 5), waits(1, hands(receives(3), sends(4)), 1, 2, 3, 4, 5), ready(2, 1, 2, 3, 4, 5), ready(3, 1, 2, 3, 4, 5),
 		waits(4, hands(sends(4), receives(4)), 1, 2, 3, 4, 5), ready(5), waits(6, hands(receives(5), receives(0)), 1, 2, 3, 4, 5))
+}
+
+// P16.3: Count has the pairs of all processes that wait, on each channel but nil, whoever stands ahead of whom; none has both its arms of one process.
+func TestCountOfPairs(t *testing.T) {
+	one, five := number(1), number(5)
+	c, _ := gathered(t, []api.Pause{wait(0, s(3, one), s(3, five), r(3), r(4), s(0, one), r(0))}, []bool{true, true, true},
+		idler(t, "1", r(3), r(3), r(3), s(4, one), s(-1, one), r(-1)), idler(t, "2", s(3, one), r(4), s(4, five), r(0), s(-1, one)), idler(t, "3", s(5, one), s(0, one), r(-1)))
+	// On 3: 0 and 1 six, 2 and 1 three, 2 and 0 one; on 4: 1 and 0, 1 and 2, 2 and 0 one each.
+	same(t, "Count", c.Count(), 13)
+	for n := range 13 {
+		if events := c.Clone().Step(n); len(events) != 1 || events[0].Kind != api.EvMeet {
+			t.Errorf("the transition %d: %v", n, events)
+		}
+	}
+	told(t, "no transition", c.Step(13), skip())
+}
+
+// P16.3, R1: of two that wait with many arms there are more pairs than could be laid out: they are counted all the same.
+func TestCountOfManyPairs(t *testing.T) {
+	arms := append(slices.Repeat([]api.Arm{s(3, number(1))}, 9000), slices.Repeat([]api.Arm{r(3)}, 8000)...)
+	c, _ := gathered(t, []api.Pause{wait(0, arms...)}, []bool{true, false}, idler(t, "1", arms...), newPuppet(t, "2"))
+	var ahead, then runtime.MemStats
+	runtime.ReadMemStats(&ahead)
+	same(t, "Count", c.Count(), 1+2*9000*8000)
+	runtime.ReadMemStats(&then)
+	if used := (then.TotalAlloc - ahead.TotalAlloc) >> 20; used > 100 {
+		t.Errorf("%d MiB were used", used)
+	}
 }
 
 // P16.3: of a pair the one that sends is fired first, with no value, then the other one with what is sent; both are ready, nobody else.
